@@ -1,0 +1,1 @@
+"""Anychain: what is read back through every chain of relays."""

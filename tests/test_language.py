@@ -1,0 +1,144 @@
+"""The rules of the language that a short program can look for in the files of the package."""
+
+import ast
+import builtins
+import unittest
+from pathlib import Path
+
+PACKAGE = Path(__file__).resolve().parent.parent / "anychain"
+FILES = sorted(PACKAGE.rglob("*.py"))
+
+BUILTINS = set(
+    "len range enumerate zip min max sum abs sorted reversed int str bool list tuple dict set isinstance ord repr any "
+    "all divmod type Exception ValueError TypeError KeyError IndexError LookupError ZeroDivisionError".split()
+)
+METHODS = set(
+    "append clear copy count endswith extend find get index insert isalnum isalpha isdigit islower isspace isupper "
+    "items join keys ljust lower lstrip partition pop remove replace reverse rfind rjust rpartition rsplit rstrip "
+    "setdefault split splitlines startswith strip update upper values zfill bit_length __init__ add discard".split()
+)
+STATEMENTS = (
+    ast.Assign, ast.AugAssign, ast.If, ast.While, ast.For, ast.Return, ast.Break, ast.Continue, ast.Pass, ast.Raise,
+    ast.Assert, ast.Delete, ast.Expr, ast.Try, ast.FunctionDef, ast.ClassDef, ast.ImportFrom,
+)
+BARRED = (
+    ast.Global, ast.Nonlocal, ast.Yield, ast.YieldFrom, ast.Await, ast.NamedExpr, ast.Starred, ast.JoinedStr,
+    ast.GeneratorExp, ast.SetComp, ast.Div, ast.Mod, ast.AsyncFunctionDef,
+)
+
+
+def names_bound(tree):
+    """All names that a function binds, the parameters included."""
+    for node in ast.walk(tree):
+        if isinstance(node, ast.arg):
+            yield node.arg
+        elif isinstance(node, ast.Name) and isinstance(node.ctx, ast.Store):
+            yield node.id
+
+
+def is_plain_is(node):
+    """Tell whether a comparison by `is` is one with None, or one of a class by its name."""
+    right = node.comparators[0]
+    if isinstance(right, ast.Constant):
+        return right.value is None
+    left = node.left
+    return isinstance(left, ast.Call) and left.func.id == "type" and isinstance(right, ast.Name)
+
+
+class Language(unittest.TestCase):
+    def trees(self):
+        for path in FILES:
+            yield path, ast.parse(path.read_text())
+
+    def test_files(self):
+        self.assertTrue(FILES)
+        for path in PACKAGE.rglob("*"):
+            if "__pycache__" not in path.parts:
+                self.assertEqual(path.suffix, ".py")
+                self.assertRegex(path.stem, "^[a-z0-9_]+$")
+                self.assertNotIn(path.stem, dir(builtins))
+        for path in FILES:
+            text = path.read_text()
+            self.assertTrue(all(32 <= ord(sign) <= 126 or sign == "\n" for sign in text), path)
+            self.assertLess(text.count("\n"), 400, path)
+            self.assertLessEqual(max(len(line) for line in text.split("\n")), 120, path)
+
+    def test_statements_and_signs(self):
+        for path, tree in self.trees():
+            for node in ast.walk(tree):
+                if isinstance(node, ast.stmt):
+                    self.assertIsInstance(node, STATEMENTS, ast.dump(node))
+                self.assertNotIsInstance(node, BARRED)
+                if isinstance(node, ast.Compare) and any(isinstance(sign, (ast.Is, ast.IsNot)) for sign in node.ops):
+                    self.assertTrue(is_plain_is(node), ast.dump(node))
+                if isinstance(node, ast.Constant):
+                    self.assertNotIsInstance(node.value, (float, complex, bytes))
+                if isinstance(node, (ast.FunctionDef, ast.ClassDef)):
+                    self.assertEqual(node.decorator_list, [])
+
+    def test_module_level(self):
+        for path, tree in self.trees():
+            for at, node in enumerate(tree.body):
+                if isinstance(node, ast.Expr):
+                    self.assertTrue(at == 0 and isinstance(node.value, ast.Constant))
+                elif isinstance(node, ast.Assign):
+                    ast.literal_eval(node.value)
+                else:
+                    self.assertIsInstance(node, (ast.ImportFrom, ast.FunctionDef, ast.ClassDef))
+            self.assertIsInstance(tree.body[0], ast.Expr, "each file begins with a docstring")
+
+    def test_imports(self):
+        tops = {}
+        for path, tree in self.trees():
+            tops["anychain." + path.stem] = {
+                name for node in tree.body for name in (
+                    [node.name] if isinstance(node, (ast.FunctionDef, ast.ClassDef))
+                    else [target.id for target in node.targets] if isinstance(node, ast.Assign) else [])
+            }
+        links = {}
+        for path, tree in self.trees():
+            used = {node.id for node in ast.walk(tree) if isinstance(node, ast.Name)}
+            for node in tree.body:
+                if isinstance(node, ast.ImportFrom):
+                    self.assertIn(node.module, tops)
+                    links.setdefault("anychain." + path.stem, set()).add(node.module)
+                    for alias in node.names:
+                        self.assertIsNone(alias.asname)
+                        self.assertIn(alias.name, tops[node.module])
+                        self.assertIn(alias.name, used, "imported, but not used")
+        while links:
+            free = [name for name in links if not links[name] & set(links)]
+            self.assertTrue(free, "files import from each other")
+            for name in free:
+                del links[name]
+
+    def test_functions_and_names(self):
+        for path, tree in self.trees():
+            taken = {alias.name for node in tree.body if isinstance(node, ast.ImportFrom) for alias in node.names}
+            taken |= {node.name for node in tree.body if isinstance(node, (ast.ClassDef, ast.FunctionDef))}
+            for node in ast.walk(tree):
+                if isinstance(node, ast.FunctionDef):
+                    self.assertLessEqual(node.end_lineno - node.lineno + 1, 40, node.name)
+                    self.assertTrue(ast.get_docstring(node) or node.name == "__init__", node.name)
+                    for name in names_bound(node):
+                        self.assertNotIn(name, taken, node.name)
+                        self.assertNotIn(name, dir(builtins), node.name)
+                elif isinstance(node, ast.Name) and node.id in dir(builtins):
+                    self.assertIn(node.id, BUILTINS)
+                elif isinstance(node, ast.Call) and isinstance(node.func, ast.Attribute):
+                    self.assertIn(node.func.attr, METHODS)
+
+    def test_loops_do_not_change_what_they_go_over(self):
+        for path, tree in self.trees():
+            for loop in ast.walk(tree):
+                if isinstance(loop, ast.For) and isinstance(loop.iter, ast.Name):
+                    for node in ast.walk(ast.Module(loop.body, [])):
+                        changes = isinstance(node, (ast.Subscript, ast.Name)) and not isinstance(node.ctx, ast.Load)
+                        changes = changes or isinstance(node, ast.Attribute)
+                        if changes:
+                            inner = node if isinstance(node, ast.Name) else node.value
+                            self.assertNotEqual(getattr(inner, "id", None), loop.iter.id, loop.lineno)
+
+
+if __name__ == "__main__":
+    unittest.main()
