@@ -2,9 +2,9 @@
 
 from anychain.errors import InvalidNet
 from anychain.graphs import linked, useful_places
-from anychain.leads import NO_LEAD, extended
 from anychain.nets import EMPTY, check_size
 from anychain.shapes import is_ascending, is_integer, is_row, is_written
+from anychain.ways import joined, unequal_way
 
 # Two paths that read the same word are followed together. A node is a triple of the
 # states of the two paths and the sign that the first one has read and the second one
@@ -91,21 +91,21 @@ def written_on_trail(trail, at):
     return joined(words[::-1])
 
 
-def joined(words):
-    """Return the words as one tuple."""
-    return tuple([sign for word in words for sign in word])
-
-
 def two_values(net):
     """Return None if a net is single-valued, and otherwise a word and two different values of it."""
     _, _, ends, moves = net
     useful = useful_places([(move[0], move[3]) for move in moves], [state for state, _ in ends])
     if 0 not in useful:
         return None
-    behind = moves_behind([move for move in moves if move[0] in useful and move[3] in useful])
+    steps = all_steps(moves_behind([move for move in moves if move[0] in useful and move[3] in useful]))
     end_words = linked(ends)
-    steps = all_steps(behind)
-    return first_fault(steps, ways_to_ends(steps, end_words), end_words)
+    both_end = [node for node in steps if is_end_node(node, end_words)]
+    fault = unequal_way(steps, {node: (end_words[node[0]], end_words[node[1]]) for node in both_end}, START)
+    if fault is None:
+        return None
+    way, first, second = fault
+    word = tuple([step[0] for step in way if step[0] != EMPTY])
+    return (word, joined([step[1] for step in way]) + first, joined([step[2] for step in way]) + second)
 
 
 def steps_behind(behind, node):
@@ -139,95 +139,3 @@ def is_end_node(node, end_words):
     """Tell whether both paths may end at a node."""
     first, second, pending = node
     return pending == EMPTY and first in end_words and second in end_words
-
-
-def ways_to_ends(steps, end_words):
-    """Return a dict from each node with a way to an end to the first step of it, None at an end."""
-    before = linked([(step[3], (node, step)) for node, found in steps.items() for step in found])
-    onward = {node: None for node in steps if is_end_node(node, end_words)}
-    queue = list(onward)
-    at = 0
-    while at < len(queue):
-        found = before.get(queue[at], ())
-        at += 1
-        for node, step in found:
-            if node not in onward:
-                onward[node] = step
-                queue.append(node)
-    return onward
-
-
-def first_fault(steps, onward, end_words):
-    """Return a word and two different values of it, or None.
-
-    All ways to a node from which an end is reached must have the same lead: else what
-    follows could not make the values of all of them equal.
-    """
-    leads = {START: NO_LEAD}
-    came = {START: None}
-    queue = [START]
-    at = 0
-    while at < len(queue):
-        node = queue[at]
-        at += 1
-        if is_end_node(node, end_words) and not ends_agree(leads[node], node, end_words):
-            return different_values(way_to(came, node), node, end_words)
-        for step in steps[node]:
-            target = step[3]
-            if target in onward:
-                lead = extended(leads[node], step[1], step[2])
-                if lead is None or leads.get(target, lead) != lead:
-                    return fault_behind(came, node, step, onward, end_words)
-                if target not in leads:
-                    leads[target] = lead
-                    came[target] = (node, step)
-                    queue.append(target)
-    return None
-
-
-def ends_agree(lead, node, end_words):
-    """Tell whether all ways to end at a node with this lead make both values equal."""
-    for first in end_words[node[0]]:
-        for second in end_words[node[1]]:
-            if extended(lead, first, second) != NO_LEAD:
-                return False
-    return True
-
-
-def way_to(came, node):
-    """Return the steps of the way on which a node was first reached."""
-    way = []
-    while came[node] is not None:
-        node, step = came[node]
-        way.append(step)
-    return way[::-1]
-
-
-def fault_behind(came, node, step, onward, end_words):
-    """Return a word and two different values of it, where a step makes a lead that cannot be."""
-    end = step[3]
-    ways = [way_to(came, node) + [step]]
-    if end in came:
-        # With the same rest, two ways with different leads cannot both have equal values.
-        ways.append(way_to(came, end))
-    rest = []
-    while onward[end] is not None:
-        rest.append(onward[end])
-        end = onward[end][3]
-    for way in ways:
-        fault = different_values(way + rest, end, end_words)
-        if fault is not None:
-            return fault
-    return None
-
-
-def different_values(way, node, end_words):
-    """Return the word of a way that ends at a node and two different values of it, or None."""
-    word = tuple([step[0] for step in way if step[0] != EMPTY])
-    one = joined([step[1] for step in way])
-    other = joined([step[2] for step in way])
-    for first in end_words[node[0]]:
-        for second in end_words[node[1]]:
-            if one + first != other + second:
-                return (word, one + first, other + second)
-    return None

@@ -1,5 +1,7 @@
 """What the tests share: asking twice, odd values, and values spoilt in one place."""
 
+import unittest
+
 from anychain import errors
 from anychain.errors import AnychainError
 
@@ -69,3 +71,16 @@ def only_plain(value):
     if type(value) is tuple:
         return all(only_plain(part) for part in value)
     return value is None or type(value) in (int, str)
+
+
+class Case(unittest.TestCase):
+    """A test case that asks for errors of exactly one class of the program."""
+
+    def raises(self, error, function, *args):
+        with self.assertRaises(AnychainError) as caught:
+            ask(function, *args)
+        self.assertIs(type(caught.exception), error)
+        self.assertIsInstance(caught.exception, ValueError)
+        for other in ERRORS:
+            if other not in (error, AnychainError):
+                self.assertNotIsInstance(caught.exception, other)

@@ -7,6 +7,8 @@ from pathlib import Path
 
 PACKAGE = Path(__file__).resolve().parent.parent / "anychain"
 FILES = sorted(PACKAGE.rglob("*.py"))
+# A doctest before this one may have left `_` there.
+BUILTIN_NAMES = set(dir(builtins)) - {"_"}
 
 BUILTINS = set(
     "len range enumerate zip min max sum abs sorted reversed int str bool list tuple dict set isinstance ord repr any "
@@ -56,7 +58,7 @@ class Language(unittest.TestCase):
             if "__pycache__" not in path.parts:
                 self.assertEqual(path.suffix, ".py")
                 self.assertRegex(path.stem, "^[a-z0-9_]+$")
-                self.assertNotIn(path.stem, dir(builtins))
+                self.assertNotIn(path.stem, BUILTIN_NAMES)
         for path in FILES:
             text = path.read_text()
             self.assertTrue(all(32 <= ord(sign) <= 126 or sign == "\n" for sign in text), path)
@@ -95,7 +97,8 @@ class Language(unittest.TestCase):
                     [node.name] if isinstance(node, (ast.FunctionDef, ast.ClassDef))
                     else [target.id for target in node.targets] if isinstance(node, ast.Assign) else [])
             }
-        links = {}
+        tops["heapq"] = {"heappush", "heappop"}
+        links = {"heapq": set()}
         for path, tree in self.trees():
             used = {node.id for node in ast.walk(tree) if isinstance(node, ast.Name)}
             for node in tree.body:
@@ -112,7 +115,31 @@ class Language(unittest.TestCase):
             for name in free:
                 del links[name]
 
+    def test_classes(self):
+        plain = set().union(*(dir(kind) for kind in (int, str, bytes, list, tuple, dict, set))) - set(dir(object))
+        for path, tree in self.trees():
+            for node in ast.walk(tree):
+                if isinstance(node, ast.ClassDef):
+                    methods = [part.name for part in node.body if isinstance(part, ast.FunctionDef)]
+                    inner = list(ast.walk(node))
+                    kept = {
+                        part.attr for part in inner
+                        if isinstance(part, ast.Attribute) and getattr(part.value, "id", None) == "self"
+                    }
+                    stored = {
+                        part.attr for part in inner
+                        if isinstance(part, ast.Attribute) and isinstance(part.ctx, ast.Store)
+                    }
+                    self.assertEqual(len(methods), len(set(methods)))
+                    self.assertLessEqual(kept, stored | set(methods))
+                    self.assertEqual(stored & set(methods), set(), "an attribute and a method")
+                    self.assertEqual((stored | set(methods)) & plain, set(), "a name of builtin values")
+
     def test_functions_and_names(self):
+        own = {
+            part.name for _, tree in self.trees() for node in ast.walk(tree) if isinstance(node, ast.ClassDef)
+            for part in node.body if isinstance(part, ast.FunctionDef)
+        }
         for path, tree in self.trees():
             taken = {alias.name for node in tree.body if isinstance(node, ast.ImportFrom) for alias in node.names}
             taken |= {node.name for node in tree.body if isinstance(node, (ast.ClassDef, ast.FunctionDef))}
@@ -122,11 +149,11 @@ class Language(unittest.TestCase):
                     self.assertTrue(ast.get_docstring(node) or node.name == "__init__", node.name)
                     for name in names_bound(node):
                         self.assertNotIn(name, taken, node.name)
-                        self.assertNotIn(name, dir(builtins), node.name)
-                elif isinstance(node, ast.Name) and node.id in dir(builtins):
+                        self.assertNotIn(name, BUILTIN_NAMES, node.name)
+                elif isinstance(node, ast.Name) and node.id in BUILTIN_NAMES:
                     self.assertIn(node.id, BUILTINS)
                 elif isinstance(node, ast.Call) and isinstance(node.func, ast.Attribute):
-                    self.assertIn(node.func.attr, METHODS)
+                    self.assertIn(node.func.attr, METHODS | own)
 
     def test_loops_do_not_change_what_they_go_over(self):
         for path, tree in self.trees():
