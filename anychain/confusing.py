@@ -37,7 +37,11 @@ def confusion_of(coder, net, making):
 
 
 def confused_letters(net, making):
-    """Return two different sent letters, each with a chain to the same letter, or None."""
+    """Return two different sent letters, each with a chain to the same letter, or None.
+
+    There are none exactly if each move of the closed net is made of one word only, and
+    no letter is read on two paths that are made of different words.
+    """
     found = two_ways(making)
     return sent_of_paths(net, making) if found is None else sent_of_ways(net, making, found)
 
@@ -65,8 +69,8 @@ def read_word(path):
 def sent_of_paths(net, making):
     """Return two sent letters, each with a chain to the same letter, or None.
 
-    Each move is made of one word only. So the closed net, where each move writes this
-    word, has as the values of a letter the sent letters of which it can come.
+    In the closed net each move writes the word that it is made of. So the values of a
+    letter are sent letters of which it can come.
     """
     signs, states, ends, _ = net
     moves = []

@@ -112,6 +112,20 @@ class ReadsBack(Back):
         for reader in ((1, 2, (), ((((0,), 0),),), ((),)), (1, 2, (), ((((1,), 0),),), ((),))):
             self.assertFalse(self.holds(coder, (), reader))
 
+    def test_two_ways_of_which_the_first_one_is_misread(self):
+        coder = (2, 2, (), ((((0,), 1), ((1,), 1)), (None, None)), (None, ()))
+        for first, second in (((), (1,)), ((0,), ()), ((0,), (1,))):
+            reader = (2, 2, (), (((first, 1), (second, 1)), (None, None)), (None, ()))
+            self.assertIs(self.holds(coder, (), reader), (first, second) == ((0,), (1,)))
+
+    def test_a_letter_that_is_misread_and_read_rightly_behind_a_step(self):
+        coder = (1, 2, (0, 0), ((None,),), ((),))
+        reader = (2, 1, (), ((((), 1), None), (((), 0), None)), ((), None))
+        rules = (((0, 0), (1,)), ((1,), ()))
+        for one, other in (rules, rules[::-1]):
+            self.assertFalse(self.holds(coder, ((one,), (other,)), reader))
+        self.assertTrue(self.holds(coder, ((((0, 0), ()),),), reader))
+
     def test_many_that_mostly_fit(self):
         rng = random.Random(201)
         right = 0
@@ -149,8 +163,13 @@ class Errors(Case):
             # It writes the whole content behind the first signs, or none of it.
             right = (2, 1, (0,) * 6, ((((0,) * (length - 6), 1), None), (((), 1), None)), (None, ()))
             wrong = (2, 1, (0,) * 6, ((((0,) * (length - 6), 1), None), (((), 0), None)), (None, ()))
+            # It takes the sent letter, but no letter that is shorter by one sign.
+            choosy = (2, 1, (0,) * 6, (
+                (((0,) * (length - 6), 1), None), (((), 2), None), (((), 1), None)
+            ), (None, None, ()) if many == 60 else (None, (), None))
             self.assertIsNone(ask(spoiled, coder, shrink, right))
-            for reader in (wrong, (2, 1, (), ((((), 0), None),), ((),))):
+            self.assertIsNone(ask(spoiled, coder, (), choosy))
+            for reader in (wrong, choosy, (2, 1, (), ((((), 0), None),), ((),))):
                 self.assertFalse(reads_back(coder, shrink, reader))
                 if many == 60:
                     content, chain = ask(spoiled, coder, shrink, reader)
@@ -225,13 +244,32 @@ class Judge(Case):
             ((0, 0, ((), ())),), (2, 1, (0,), ((0, 0, 0), (0, 1, 0))), ((0, 0, 0, ((), ())),)
         )))
 
-    def test_reached_pairs_with_a_dead_reader(self):
-        # The reader dies on 1 behind 0; a row whose sides are read to their end is needed only where it lives.
-        reader = (2, 1, (), ((((), 1), None), (None, None)), (None, ()))
+    def test_pairs_with_a_dead_reader_are_not_reached(self):
+        # The reader takes zeros alone; behind a 1 the net goes on, but no row is needed there.
         coder = (1, 2, (0,), ((None,),), ((),))
-        for book in (((((1,), ()),),), ((((0, 0), (0,)),),), ()):
-            net = (2, 2, (1,), ((0, 0, 1),))
-            self.holds(coder, book, reader, (((0, 1, ((), ())),), net, ()))
+        reader = (2, 1, (), ((((), 0), None),), ((),))
+        moves = ((0, -1, 1), (0, 0, 1), (0, 1, 2), (2, -1, 3), (2, 0, 3))
+        pairs, rows = ((0, 0, ((), ())),), ((1, 0, 0, ((), ())),)
+        for states, ends in ((4, (1,)), (4, (1, 3)), (5, (1,))):
+            net = (2, states, ends, moves)
+            self.assertTrue(self.holds(coder, ((((0,), ()),),), reader, (pairs, net, rows)))
+        # A left side on which it dies is another matter.
+        for left in ((1,), (1, 0), (0, 0)):
+            self.holds(coder, (((left, ()),),), reader, (pairs, (2, 4, (1,), moves), rows))
+            self.holds(coder, (((left, ()),),), reader, (pairs, (2, 4, (1,), ((0, -1, 2), (0, -1, 3)) + moves[:3]), rows))
+
+    def test_leads_of_two_words_and_signs_that_are_none_of_a_content(self):
+        book = ((((0, 0), (0,)),),)
+        coder = CODER[:3] + (CODER[3] + ((None,),), ((), None))
+        pairs, net, rows = back_paper(coder, book, READER)
+        wide = (2, net[1] + 1, net[2], net[3])
+        for lead in (
+            ((0,), ()), ((), (0, 0)), ((0,), (0,)), ((1,), ()), ((), (0, 1)), ((-1,), ()), ((), (True,)), ((0,),),
+            ([0], ()), ((), "0"), ((0,), (), ()), None,
+        ):
+            right = lead in (((0,), ()), ((), (0, 0)))
+            for paper in ((pairs + ((1, 0, lead),), net, rows), (pairs, wide, rows + ((net[1], 0, 0, lead),))):
+                self.assertIs(self.holds(coder, book, READER, paper), right)
 
     def test_pairs_that_are_put_in(self):
         rng = random.Random(215)
