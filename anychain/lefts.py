@@ -37,13 +37,14 @@ def targets_of(moves):
 def left_ends(tree, targets, start):
     """Return quadruples (relay, rule, right sign, state): paths for the left side lead to the state."""
     children, rules = tree
-    found = {(0, start): True}
+    rows = {0: {start: True}}
     queue = [(0, start)]
     while queue:
         node, state = queue.pop()
         for sign, after in children[node].items():
-            for target in targets.get((state, sign), ()):
-                if (after, target) not in found:
-                    found[(after, target)] = True
-                    queue.append((after, target))
-    return [rule + (state,) for node, state in found for rule in rules[node]]
+            row = rows.setdefault(after, {})
+            fresh = [target for target in targets.get((state, sign), ()) if target not in row]
+            for target in fresh:
+                row[target] = True
+                queue.append((after, target))
+    return [rule + (state,) for node, row in rows.items() for rule in rules[node] for state in row]
