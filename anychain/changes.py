@@ -27,7 +27,7 @@ class Search:
 
     def __init__(self, net, book, reader):
         self.net = net
-        self.book = book
+        self.relays = book
         self.reader = reader
         self.sides = Sides(net, book, reader)
         self.moves = moves_from(net[3])
@@ -86,7 +86,7 @@ class Search:
         for other in ways:
             letter, step = self.letter_of(row, other)
             made = translate(self.reader, letter)
-            if made is None or made != translate(self.reader, apply_step(self.book, letter, step)):
+            if made is None or made != translate(self.reader, apply_step(self.relays, letter, step)):
                 return (letter, step)
         return None
 
@@ -103,7 +103,7 @@ class Search:
             before.append(sign)
         begin = tuple([sign for sign in before[::-1] if sign != EMPTY])
         middle = tuple([sign for sign in signs[::-1] if sign != EMPTY])
-        left = self.book[relay][rule][0]
+        left = self.relays[relay][rule][0]
         return begin + left + middle + self.rest(row[0]), (relay, rule, len(begin))
 
     def rest(self, state):

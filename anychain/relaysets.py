@@ -48,7 +48,7 @@ class Verdicts:
         check_coder_and_book(coder, book)
         if reader is not None:
             check_coder_and_reader(coder, reader)
-        self.book = book
+        self.relays = book
         self.reader = reader
         self.net = sent_net(coder)
         self.every = (1 << len(book)) - 1
@@ -66,7 +66,7 @@ class Verdicts:
 
     def chosen(self, bits):
         """Return the book with the relays of a set alone."""
-        return tuple([rules if bits >> relay & 1 else () for relay, rules in enumerate(self.book)])
+        return tuple([rules if bits >> relay & 1 else () for relay, rules in enumerate(self.relays)])
 
     def making(self, bits):
         """Return what closes the net of the sent letters under the relays of a set."""
@@ -75,11 +75,11 @@ class Verdicts:
     def search(self, bits):
         """Decide a set, and with it the greatest harmless set about it or the least harmful one within it."""
         if self.is_harmless(bits):
-            for relay in range(len(self.book)):
+            for relay in range(len(self.relays)):
                 if self.is_harmless(bits | 1 << relay):
                     bits = bits | 1 << relay
         else:
-            for relay in range(len(self.book)):
+            for relay in range(len(self.relays)):
                 smaller = bits & (self.every ^ 1 << relay)
                 if not self.is_harmless(smaller):
                     bits = smaller

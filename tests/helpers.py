@@ -3,7 +3,7 @@
 import unittest
 
 from anychain import errors
-from anychain.errors import AnychainError
+from anychain.errors import AnychainError, BadLetter
 
 ODD_VALUES = (
     None, True, False, 0, 1, 2, -1, -2, 29, 30, 31, 10 ** 30, -(10 ** 30), 1.0, "", "0", "ab", b"", b"\x00",
@@ -84,3 +84,12 @@ class Case(unittest.TestCase):
         for other in ERRORS:
             if other not in (error, AnychainError):
                 self.assertNotIsInstance(caught.exception, other)
+
+    def bad_at(self, place, function, *args):
+        """The call raises BadLetter with this place, and with an integer if the place is None."""
+        self.raises(BadLetter, function, *args)
+        try:
+            function(*args)
+        except BadLetter as error:
+            self.assertIs(type(error.place), int)
+            self.assertEqual(error.place, error.place if place is None else place, args)

@@ -3,6 +3,10 @@
 import importlib
 import inspect
 import unittest
+from pathlib import Path
+
+import anychain
+from anychain.road import Road
 
 INTERFACE = {
     "books": "check_book(signs, book)",
@@ -28,7 +32,19 @@ INTERFACE = {
              "overlaps(table) broken_seal(table, book)",
     "finest": "is_zigzag(book, words) is_finest(table, book, links) zigzag(table, links, first, second)",
     "forany": "unfirm_rules(reader, book) changed_letter(reader, book)",
+    "running": "once(book, relay, word) sweep(book, relay, word) while_any(book, relay, word)",
+    "bounds": "part_machine(machine) least_missing(machine, chosen) safe_bound(coder, book, chosen)",
+    "mailsigns": "signs_of(text) text_of(word) is_letter(word) content_text(content) content_signs(text)",
+    "heads": "write_letter(fields, body) read_letter(text) unfold_text(text) fold_text(text, width) head_lines(text)",
+    "parts": "write_parts(tree) read_parts(lines) fresh_bound(lines)",
+    "ready": "ready_relay(name) ready_book(names) ready_seal(name) relay_names() seal_names()",
+    "coders": "ready_coder(name) ready_reader(name) coder_names()",
+    "notation": "book_text(book) chain_text(chain) read_book(text) read_chain(text)",
+    "road": "Road(coder, reader)",
 }
+
+ROAD = "book(self) add_relay(self, relay) drop_relay(self, index) undo(self) verdict(self) trace(self, letter) " \
+       "blame(self)"
 
 
 class Interface(unittest.TestCase):
@@ -40,6 +56,16 @@ class Interface(unittest.TestCase):
                 function = getattr(module, name)
                 self.assertEqual(function.__module__, "anychain." + file, name)
                 self.assertEqual(name + str(inspect.signature(function)), entry)
+
+    def test_methods_of_the_road(self):
+        for entry in ROAD.replace(") ", ")\n").split("\n"):
+            name = entry.partition("(")[0]
+            self.assertIn(name, vars(Road), "defined in the class itself")
+            self.assertEqual(name + str(inspect.signature(vars(Road)[name])), entry)
+
+    def test_each_function_stands_in_a_listed_file(self):
+        files = {path.stem for path in Path(anychain.__file__).parent.glob("*.py")}
+        self.assertLessEqual(set(INTERFACE) | {"errors", "__init__"}, files)
 
 
 if __name__ == "__main__":

@@ -2,6 +2,9 @@
 
 import ast
 import builtins
+import io
+import re
+import tokenize
 import unittest
 from pathlib import Path
 
@@ -17,7 +20,8 @@ BUILTINS = set(
 METHODS = set(
     "append clear copy count endswith extend find get index insert isalnum isalpha isdigit islower isspace isupper "
     "items join keys ljust lower lstrip partition pop remove replace reverse rfind rjust rpartition rsplit rstrip "
-    "setdefault split splitlines startswith strip update upper values zfill bit_length __init__ add discard".split()
+    "setdefault split splitlines startswith strip update upper values zfill bit_length __init__ add discard "
+    "decode".split()
 )
 STATEMENTS = (
     ast.Assign, ast.AugAssign, ast.If, ast.While, ast.For, ast.Return, ast.Break, ast.Continue, ast.Pass, ast.Raise,
@@ -74,9 +78,43 @@ class Language(unittest.TestCase):
                 if isinstance(node, ast.Compare) and any(isinstance(sign, (ast.Is, ast.IsNot)) for sign in node.ops):
                     self.assertTrue(is_plain_is(node), ast.dump(node))
                 if isinstance(node, ast.Constant):
-                    self.assertNotIsInstance(node.value, (float, complex, bytes))
+                    self.assertNotIsInstance(node.value, (float, complex))
                 if isinstance(node, (ast.FunctionDef, ast.ClassDef)):
                     self.assertEqual(node.decorator_list, [])
+
+    def test_strings(self):
+        for path in FILES:
+            for token in tokenize.generate_tokens(io.StringIO(path.read_text()).readline):
+                if token.type == tokenize.STRING:
+                    self.assertIn(token.string[0], "\"b")
+                    escapes = {found[0][:2] for found in re.finditer(r"\\.", token.string)}
+                    allowed = {"\\n", "\\t", "\\\\", "\\\""} | ({"\\x"} if token.string[0] == "b" else set())
+                    self.assertLessEqual(escapes, allowed, token.string)
+                    self.assertNotIn("%", token.string)
+                    self.assertFalse(token.string.endswith(('._"', '.__"')))
+
+    def test_bytes(self):
+        """They are decoded as ASCII, and nothing else is done with them."""
+        for path, tree in self.trees():
+            for node in ast.walk(tree):
+                if isinstance(node, ast.Call) and isinstance(node.func, ast.Attribute) and node.func.attr == "decode":
+                    self.assertEqual([part.value for part in node.args], ["ascii"])
+                    self.assertEqual(node.keywords, [])
+
+    def test_ranges_and_the_like_are_iterated_at_once(self):
+        """They stand in a loop, in a comprehension, or in a builtin that goes over them."""
+        lazy = {"range", "zip", "enumerate", "reversed"}
+        eager = {"list", "tuple", "dict", "sorted", "sum", "any", "all", "min", "max", "enumerate", "zip", "reversed"}
+        for path, tree in self.trees():
+            good = set()
+            for node in ast.walk(tree):
+                if isinstance(node, (ast.For, ast.comprehension)):
+                    good.add(node.iter)
+                elif isinstance(node, ast.Call) and getattr(node.func, "id", None) in eager:
+                    good.update(node.args)
+            for node in ast.walk(tree):
+                if isinstance(node, ast.Call) and getattr(node.func, "id", None) in lazy:
+                    self.assertIn(node, good, (path, node.lineno))
 
     def test_module_level(self):
         for path, tree in self.trees():
@@ -134,6 +172,17 @@ class Language(unittest.TestCase):
                     self.assertLessEqual(kept, stored | set(methods))
                     self.assertEqual(stored & set(methods), set(), "an attribute and a method")
                     self.assertEqual((stored | set(methods)) & plain, set(), "a name of builtin values")
+
+    def test_no_name_is_a_method_and_an_attribute(self):
+        methods = set()
+        stored = set()
+        for path, tree in self.trees():
+            for node in ast.walk(tree):
+                if isinstance(node, ast.ClassDef):
+                    methods |= {part.name for part in node.body if isinstance(part, ast.FunctionDef)}
+                elif isinstance(node, ast.Attribute) and isinstance(node.ctx, ast.Store):
+                    stored.add(node.attr)
+        self.assertEqual(methods & stored, set())
 
     def test_functions_and_names(self):
         own = {
